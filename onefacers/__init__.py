@@ -1,0 +1,1 @@
+"""Onefacers: facers that meet the same one, whoever works, wherever, however late."""
