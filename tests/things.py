@@ -60,6 +60,24 @@ def odd_things():
     ]
 
 
+def no_lists_of_whos():
+    """Things of many kinds, none of which is a list or a tuple of WHOS."""
+    def is_one(thing):
+        return isinstance(thing, (list, tuple)) and all([isinstance(part, tuple) and len(part) == 1
+                                                         and isinstance(part[0], str) for part in thing])
+    a = ("a",)
+    things = [thing for thing in odd_things() if not is_one(thing)]
+    things += [[thing] for thing in odd_things()] + [[a, thing] for thing in odd_things()]
+    return things + [(thing, a) for thing in odd_things()] + [
+        a, "a", {a: True}, {a}, [["a"]], [("a", True)], [()], [("b",), ("a", False)], iter([a]), range(0), {}]
+
+
+def no_limits():
+    """Things of many kinds, none of which is a whole number from 0 to 200."""
+    things = [thing for thing in odd_things() if isinstance(thing, bool) or not isinstance(thing, int)]
+    return things + [-1, 201, "1", 10 ** 29, -200, -(10 ** 29), [0], (0,), "200", b"0"]
+
+
 def some_kinds():
     """Kinds with none, one and two hands, of one lot and of two."""
     return Kinds({"zero": (), "succ": (0,), "dup": (0, 0), "add": (0, 1)})
