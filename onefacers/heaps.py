@@ -18,7 +18,7 @@ def is_list_of_whos(thing):
     return isinstance(thing, (list, tuple)) and all([is_who(who) for who in thing])
 
 
-def _could_be_heap(names):
+def could_be_heap(names):
     """Whether these are at most 200 unlike WHOS."""
     if not is_list_of_whos(names) or len(names) > MOST_MEETINGS:
         return False
@@ -41,7 +41,7 @@ def _worked_off(bench, names):
 
 def do_heap(bench, names):
     """Does a heap on a bench, which is that of its web still; THE row of it."""
-    if not _could_be_heap(names):
+    if not could_be_heap(names):
         raise NoHeap(None)
     row, left = _worked_off(bench, names)
     if len(left) > 0:
@@ -52,7 +52,7 @@ def do_heap(bench, names):
 def is_heap(book, web, names):
     """Whether these meetings can be done in some order."""
     bench = Bench(book, web)
-    if not _could_be_heap(names):
+    if not could_be_heap(names):
         return False
     _, left = _worked_off(bench, names)
     return len(left) == 0
@@ -61,7 +61,7 @@ def is_heap(book, web, names):
 def is_row(book, web, names):
     """Whether these meetings can be done in this order."""
     bench = Bench(book, web)
-    if not _could_be_heap(names):
+    if not could_be_heap(names):
         return False
     for who in names:
         if not bench.is_ready(who):
