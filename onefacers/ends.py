@@ -26,3 +26,12 @@ def is_end(thing):
 def ties_of(mates):
     """The ties, rising, lesser ends first, of a dict from each end to its mate."""
     return [(end, mates[end]) for end in sorted(mates) if end < mates[end]]
+
+
+def mates_of(ties):
+    """A dict from each end in ties to its mate."""
+    mates = {}
+    for one, other in ties:
+        mates[one] = other
+        mates[other] = one
+    return mates

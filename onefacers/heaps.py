@@ -25,7 +25,7 @@ def could_be_heap(names):
     return len({who: True for who in names}) == len(names)
 
 
-def _worked_off(bench, names):
+def worked_off(bench, names):
     """Does of the meetings all that can be done, each time the least: their row, and those that are left."""
     row = []
     left = list(names)
@@ -43,7 +43,7 @@ def do_heap(bench, names):
     """Does a heap on a bench, which is that of its web still; THE row of it."""
     if not could_be_heap(names):
         raise NoHeap(None)
-    row, left = _worked_off(bench, names)
+    row, left = worked_off(bench, names)
     if len(left) > 0:
         raise NoHeap(min(left))
     return row
@@ -54,7 +54,7 @@ def is_heap(book, web, names):
     bench = Bench(book, web)
     if not could_be_heap(names):
         return False
-    _, left = _worked_off(bench, names)
+    _, left = worked_off(bench, names)
     return len(left) == 0
 
 
@@ -82,16 +82,24 @@ def row_of(book, web, names):
     return do_heap(Bench(book, web), names)
 
 
+def do_all(bench, most):
+    """Does on a bench each time the least that is ready, till nothing is: their row; None for more than most."""
+    row = []
+    pairs = bench.pairs()
+    while len(pairs) > 0:
+        if len(row) >= most:
+            return None
+        bench.meet(pairs[0][0])
+        row.append(pairs[0][0])
+        pairs = bench.pairs()
+    return row
+
+
 def whole(book, web, *, limit=MOST_MEETINGS):
     """The heap behind which nothing is ready, rising."""
     bench = Bench(book, web)
     check_limit(limit)
-    done = []
-    pairs = bench.pairs()
-    while len(pairs) > 0:
-        if len(done) == limit:
-            raise TooMany(limit)
-        bench.meet(pairs[0][0])
-        done.append(pairs[0][0])
-        pairs = bench.pairs()
-    return sorted(done)
+    row = do_all(bench, limit)
+    if row is None:
+        raise TooMany(limit)
+    return sorted(row)

@@ -1,15 +1,12 @@
 """Webs that are alike but for their facers' names."""
 
+from onefacers.ends import mates_of
 from onefacers.matching import matching, net_of
 
 
 def _net(web):
     """A web as a net, as `matching` wants it."""
-    mates = {}
-    for one, other in web.ties():
-        mates[one] = other
-        mates[other] = one
-    return net_of(web.kinds(), web.facers(), mates)
+    return net_of(web.kinds(), web.facers(), mates_of(web.ties()))
 
 
 def renaming(one, other):

@@ -42,6 +42,25 @@ def nodes(kind):
                 yield path.name, node
 
 
+def functions_above(path, node):
+    """The names of a file's functions that are defined above a node."""
+    return [one.name for one in ast.parse(path.read_text()).body
+            if isinstance(one, ast.FunctionDef) and one.lineno < node.lineno]
+
+
+def is_plain(value, functions):
+    """Whether a value at module level is plain: no list or dict within another value, no call, no operator."""
+    def is_within(one):
+        if isinstance(one, ast.Tuple):
+            return all(is_within(part) for part in one.elts)
+        return isinstance(one, ast.Constant) or (isinstance(one, ast.Name) and one.id in functions)
+    if isinstance(value, ast.UnaryOp):
+        return isinstance(value.op, ast.USub) and isinstance(value.operand, ast.Constant)
+    if isinstance(value, ast.Dict):
+        return all(isinstance(key, ast.Constant) for key in value.keys) and all(is_within(one) for one in value.values)
+    return is_within(value)
+
+
 class Texts(unittest.TestCase):
     def test_files(self):
         self.assertTrue((PACKAGE / "__init__.py").exists())
@@ -155,7 +174,8 @@ class Statements(unittest.TestCase):
                 else:
                     self.assertIsInstance(node, (ast.ImportFrom, ast.FunctionDef, ast.ClassDef, ast.Assign), path.name)
                 if isinstance(node, ast.Assign):
-                    self.assertIsInstance(node.value, ast.Constant, path.name)
+                    self.assertEqual(len(node.targets), 1)
+                    self.assertTrue(is_plain(node.value, functions_above(path, node)), (path.name, node.lineno))
 
     def test_any_all_and_their_kin_take_lists(self):
         for name, node in nodes(ast.GeneratorExp):
@@ -166,6 +186,17 @@ class Statements(unittest.TestCase):
             for sign, right in zip(node.ops, node.comparators):
                 if isinstance(sign, (ast.Is, ast.IsNot)):
                     self.assertIsInstance(right, ast.Constant, (name, node.lineno))
+
+    def test_what_stands_in_a_finally(self):
+        for name, node in nodes(ast.Try):
+            for one in node.finalbody:
+                self.assertIsInstance(one, (ast.Assign, ast.Expr), (name, one.lineno))
+                for part in ast.walk(one):
+                    self.assertNotIsInstance(part, (ast.BinOp, ast.UnaryOp, ast.Subscript, ast.Dict, ast.JoinedStr),
+                                             (name, one.lineno))
+                    if isinstance(part, ast.Call):
+                        self.assertIsInstance(part.func, ast.Attribute, (name, one.lineno))
+                        self.assertEqual(part.func.attr, "append", (name, one.lineno))
 
     def test_handlers_name_own_errors(self):
         for name, node in nodes(ast.ExceptHandler):

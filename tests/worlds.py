@@ -5,50 +5,14 @@ import random
 from onefacers.books import Book
 from onefacers.booktexts import read_book
 from onefacers.kinds import Kinds
+from onefacers.samples import COUNTING
 from onefacers.webs import Web
 from onefacers.webtexts import who_of
-
-COUNTS = """kind add 0 1
-kind dup 0 0
-kind era
-kind mul 0 1
-kind succ 0
-kind zero
-rule add succ succ add
-tie l1 1:1
-tie l2 0:0
-tie r1 1:0
-tie 0:1 1:2
-rule add zero
-tie l1 l2
-rule dup succ succ succ dup
-tie l1 0:0
-tie l2 1:0
-tie r1 2:0
-tie 0:1 2:1
-tie 1:1 2:2
-rule dup zero zero zero
-tie l1 0:0
-tie l2 1:0
-rule era succ era
-tie r1 0:0
-rule era zero
-rule mul succ dup mul add
-tie l1 0:0
-tie l2 2:2
-tie r1 1:0
-tie 0:1 1:1
-tie 0:2 2:0
-tie 1:2 2:1
-rule mul zero era zero
-tie l1 0:0
-tie l2 1:0
-"""
 
 
 def counts():
     """A book of numbers that are added, taken times, doubled and taken away."""
-    return read_book(COUNTS)
+    return read_book(COUNTING)
 
 
 def outer(name):
@@ -171,12 +135,8 @@ def plain_rule(source, kinds, left, right, most):
     return (left, right, made, facing(ends))
 
 
-def random_book(source, most=3):
-    """Three kinds of some hands, and rules of most pairs of them."""
-    table = {}
-    for word in ("p", "q", "r"):
-        table[word] = (0,) * source.randrange(4)
-    kinds = Kinds(table)
+def random_rules(source, kinds, most):
+    """Rules of most pairs of kinds."""
     rules = []
     for at, one in enumerate(kinds.words()):
         for other in kinds.words()[at:]:
@@ -185,7 +145,16 @@ def random_book(source, most=3):
             rule = even_rule(source, kinds, one, most) if one == other else plain_rule(source, kinds, *pair, most)
             if rule is not None and source.random() < 0.9:
                 rules.append(rule)
-    return Book(kinds, rules)
+    return rules
+
+
+def random_book(source, most=3):
+    """Three kinds of some hands, and rules of most pairs of them."""
+    table = {}
+    for word in ("p", "q", "r"):
+        table[word] = (0,) * source.randrange(4)
+    kinds = Kinds(table)
+    return Book(kinds, random_rules(source, kinds, most))
 
 
 def random_web(source, kinds, many):

@@ -1,0 +1,3 @@
+"""What rings and plans are looked for in."""
+
+MOST_LOOKED = 24
