@@ -18,7 +18,7 @@ def _causes_on(bench, causes, left):
     return list(found)
 
 
-def _worked(book, web, names):
+def with_causes(book, web, names):
     """The bench behind a heap, and a dict from each of the heap to its causes, causes ahead."""
     row = row_of(book, web, names)
     bench = Bench(book, web)
@@ -31,7 +31,7 @@ def _worked(book, web, names):
 
 def causes_of(book, web, names, who):
     """The causes of a meeting that is in a heap or ready behind it, rising."""
-    bench, causes = _worked(book, web, names)
+    bench, causes = with_causes(book, web, names)
     if not is_who(who):
         raise NoMeeting(who)
     if who in causes:
@@ -43,7 +43,7 @@ def causes_of(book, web, names, who):
 
 def lengths(book, web, names):
     """A dict from each of a heap to its length: 1 more than the greatest of its causes."""
-    _, causes = _worked(book, web, names)
+    _, causes = with_causes(book, web, names)
     found = {}
     for who in causes:
         found[who] = 1 + max([found[cause] for cause in causes[who]], default=0)
@@ -52,14 +52,14 @@ def lengths(book, web, names):
 
 def lasts(book, web, names):
     """Those of a heap that are causes of none other of it, rising."""
-    _, causes = _worked(book, web, names)
+    _, causes = with_causes(book, web, names)
     bearing = {cause: True for who in causes for cause in causes[who]}
     return sorted([who for who in causes if who not in bearing])
 
 
 def borne_by(book, web, names, some):
     """The heap of some of a heap and all their causes, rising."""
-    _, causes = _worked(book, web, names)
+    _, causes = with_causes(book, web, names)
     if not could_be_heap(some) or not all([who in causes for who in some]):
         raise NoHeap(None)
     borne = {who: True for who in some}

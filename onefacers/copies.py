@@ -59,7 +59,7 @@ class Copy:
         many = len(self._stands)
         # On a bench of its own: where more would stand than the limit tells, nothing was done.
         bench = Bench(self._book, self._first)
-        for who in self._stands:
+        for who in list(self._stands):
             bench.meet(who)
         row = do_all(bench, limit - many)
         if row is None:
@@ -106,7 +106,7 @@ class Copy:
     def copied(self):
         """A copy alike, on which nothing that is done here has bearing."""
         twin = Copy(self._book, self._first)
-        for who in self._stands:
+        for who in list(self._stands):
             twin._do(who)
         twin._waits = {who: True for who in self._waits}
         return twin

@@ -13,23 +13,17 @@ from onefacers.meetings import ready
 from onefacers.needs import need
 from onefacers.webs import Web
 from onefacers.webtexts import web_text
+from tests.cases import Case
 from tests.things import Touchy, no_limits, no_lists_of_whos, odd_things, some_kinds
-from tests.worlds import Unfolded, book_in, counts, endless, heaps_of, many_pairs, random_world, sum_web, web_in, whos
+from tests.worlds import (FORK, RULES, Unfolded, book_in, counts, endless, fork, heaps_of, many_pairs, random_world,
+                          sum_web, web_in, whos)
 
 A = ("a",)
-TABLE = {"era": (), "one": (0,)}
-RULES = ["one era: era: l1 0:0", "era era::"]
-
-
-def fork():
-    """A web in which a, c and e are ready, and a.0 meets c.0 behind a and c."""
-    book = book_in(TABLE, *RULES)
-    return book, web_in(book.kinds(), "a one, b era, c one, d era, e era, f era", "a:0 b:0, c:0 d:0, a:1 c:1, e:0 f:0")
 
 
 def row_web(many):
     """One behind another: b's meeting makes c's ready, and so on."""
-    book = book_in(TABLE, *RULES)
+    book = book_in(FORK, *RULES)
     names = "abcdefghijklmnopqrstuvwxyz"[:many]
     facers = [f"{name} one" for name in names]
     ties = [f"{one}:1 {other}:0" for one, other in zip(names, names[1:])]
@@ -43,17 +37,6 @@ def pairs_and_names(many):
 
 def state(copy):
     return (copy.book(), copy.first(), copy.web(), copy.heap(), copy.waits(), copy.ready(), len(copy), str(copy))
-
-
-class Case(unittest.TestCase):
-    def refused(self, error, field, call, *handed, **named):
-        """Refused with just this error, whose field is the thing itself or equal to it."""
-        with self.assertRaises(error) as caught:
-            call(*handed, **named)
-        self.assertIs(type(caught.exception), error)
-        for name, value in field.items():
-            told = getattr(caught.exception, name)
-            self.assertTrue(told is value or (type(told), told) == (type(value), value))
 
 
 class New(Case):
@@ -70,7 +53,8 @@ class New(Case):
     def test_unlike(self):
         book, web = fork()
         pairs = [(book, thing) for thing in odd_things()] + [(thing, web) for thing in odd_things()]
-        pairs += [(web, book), (book, Web(some_kinds())), (Book(some_kinds()), web), (book, Web(Kinds({}))), (counts(), web)]
+        pairs += [(web, book), (book, Web(some_kinds())), (Book(some_kinds()), web), (book, Web(Kinds({}))),
+                  (counts(), web)]
         for one, other in pairs:
             self.refused(Unlike, {}, Copy, one, other)
 
@@ -103,7 +87,7 @@ class Meet(Case):
         self.assertEqual(state(copy), ahead)
 
     def test_truths_are_no_places(self):
-        book = book_in(TABLE, *RULES)
+        book = book_in(FORK, *RULES)
         copy = Copy(book, web_in(book.kinds(), "a.0 era, b era, a.1 era, c era", "a.0:0 b:0, a.1:0 c:0"))
         for who in (("a", False), ("a", True)):
             self.refused(NoMeeting, {"who": who}, copy.meet, who)
@@ -329,7 +313,7 @@ class Pour(Case):
         copy = Copy(book, web)
         copy.hear(whos("a a.0"))
         ahead = state(copy)
-        less = book_in(TABLE, RULES[0])
+        less = book_in(FORK, RULES[0])
         renamed = web_in(book.kinds(), "a one, b era, c one, d era, e era, g era", "a:0 b:0, c:0 d:0, a:1 c:1, e:0 g:0")
         others = [Copy(less, web), Copy(book, renamed), Copy(book, copy.web()), Copy(book, Web(book.kinds())),
                   Copy(counts(), Web(counts().kinds())), book, web, *odd_things()]
@@ -389,7 +373,7 @@ class Back(Case):
             self.refused(Caused, {"by": whos(by)[0]}, copy.back, whos(text)[0])
 
     def test_caused_by_one_that_is_lesser(self):
-        book = book_in(TABLE, *RULES)
+        book = book_in(FORK, *RULES)
         web = web_in(book.kinds(), "a one, b one, c one, d era, e one", "c:0 d:0, c:1 b:0, b:1 a:0, a:1 e:0, e:1 :out")
         copy = Copy(book, web)
         copy.meet_all()
@@ -408,7 +392,8 @@ class Back(Case):
 
     def test_nothing_is_done_behind_it_but_at_the_next_deed(self):
         book, web, names = pairs_and_names(203)
-        deeds = ((lambda copy: copy.hear([]), 0), (lambda copy: copy.hear(()), 0), (lambda copy: copy.hear([("z",)]), 0),
+        deeds = ((lambda copy: copy.hear([]), 0), (lambda copy: copy.hear(()), 0),
+                 (lambda copy: copy.hear([("z",)]), 0),
                  (lambda copy: copy.pour(copy), 0), (lambda copy: copy.hear(names[:1]), 0),
                  (lambda copy: copy.pour(Copy(book, web)), 0), (lambda copy: copy.meet(names[202]), 2))
         for deed, least in deeds:
@@ -455,7 +440,7 @@ class Equal(Case):
 
     def test_unlike_ones(self):
         book, web = fork()
-        less = book_in(TABLE, RULES[0])
+        less = book_in(FORK, RULES[0])
         self.assertNotEqual(Copy(book, web), Copy(less, web))
         self.assertNotEqual(Copy(book, web), Copy(book, Web(book.kinds())))
         # The web behind what stands is equal, the first one isn't.
@@ -710,7 +695,8 @@ class Kept(unittest.TestCase):
 
     def test_lists_that_are_told_may_be_changed(self):
         copy = Copy(*fork())
-        told = [copy.hear(whos("a z")), copy.meet(("c",)), copy.meet_all(), copy.heap(), copy.waits(), copy.common(copy),
+        told = [copy.hear(whos("a z")), copy.meet(("c",)), copy.meet_all(), copy.heap(), copy.waits(),
+                copy.common(copy),
                 copy.copied().heap(), copy.pour(copy)]
         copy.back(("e",))
         ahead = state(copy)

@@ -97,7 +97,8 @@ class Plans(unittest.TestCase):
 
     def test_each_just_once(self):
         web = web_of("a one, b one, c.3 era", "a:0 b:0, a:1 :p, b:1 :q, c.3:0 :r")
-        for text in ("", "a", "a b", "b c.3", "a b b", "a a c.3", "a b c.3 c.3", "a b c", "a b c.3 d", "a b d", "a b c.4",
+        for text in ("", "a", "a b", "b c.3", "a b b", "a a c.3", "a b c.3 c.3", "a b c", "a b c.3 d", "a b d",
+                     "a b c.4",
                      "a b c.3.0"):
             self.assertIs(is_plan(web, whos(text)), False)
             self.assertIs(is_plan(web, tuple(whos(text))), False)

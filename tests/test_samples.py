@@ -7,6 +7,7 @@ from onefacers.heaps import behind, whole
 from onefacers.samples import COUNTING, number_text
 from onefacers.values import come_to, value_at
 from onefacers.webs import Web
+from tests.things import odd_things
 from tests.worlds import sum_web, whos
 
 HANDS = {"zero": 0, "succ": 1, "add": 2, "mul": 2, "dup": 2, "era": 0}
@@ -129,6 +130,8 @@ class NumberText(unittest.TestCase):
                      "succ(zero,zero)", "succ(succ(zero)", "succ((zero))", "succ zero", "era", "dup(zero,?)", "0", "1",
                      "succ(era)", "suc(zero)", "succ(succ(zeros))", "))zero((", ")zero(", "zerozero", "succ(zero)zero"):
             self.assertEqual(number_text(text), -1, text)
+        for thing in odd_things():
+            self.assertEqual(number_text(thing), -1)
 
 
 if __name__ == "__main__":

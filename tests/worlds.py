@@ -10,6 +10,10 @@ from onefacers.webs import Web
 from onefacers.webtexts import who_of
 
 
+FORK = {"era": (), "one": (0,)}
+RULES = ["one era: era: l1 0:0", "era era::"]
+
+
 def counts():
     """A book of numbers that are added, taken times, doubled and taken away."""
     return read_book(COUNTING)
@@ -54,6 +58,12 @@ def book_in(table, *rules):
 def whos(text):
     """WHOS in words."""
     return [who_of(word) for word in text.split()]
+
+
+def fork():
+    """A book and a web in which a, c and e are ready, and a.0 meets c.0 behind a and c."""
+    book = book_in(FORK, *RULES)
+    return book, web_in(book.kinds(), "a one, b era, c one, d era, e era, f era", "a:0 b:0, c:0 d:0, a:1 c:1, e:0 f:0")
 
 
 def number_in(web_rows, tie_rows, letter, many, top):
